@@ -1,0 +1,1 @@
+"""Mixpace: mixes of dishes that a kitchen can keep up for ever."""
