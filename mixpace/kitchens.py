@@ -51,7 +51,7 @@ class Kitchen:
     @property
     def horizon(self):
         """The greatest length of a dish, or 1."""
-        return max([dish.length for dish in self._menu], default=1)
+        return max([int(dish.length) for dish in self._menu], default=1)
 
     def number_of(self, tool):
         """Returns the present number of the tool."""

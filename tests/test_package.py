@@ -20,6 +20,18 @@ DEFINED = {
     "dishes": ["Dish"],
     "reading": ["read_dish", "write_dish"],
     "kitchens": ["Kitchen", "ask_closed"],
+    "standings": ["empty_standing", "after_start", "after_beat", "moves", "all_standings"],
+    "rows": ["first_lack", "row_totals", "stretch_totals", "ring_lack", "ring_mean"],
+    "mixes": ["lowest"],
+    "polygons": ["Region"],
+}
+# What LANGUAGE.md allows to import from elsewhere.
+LIBRARY = {
+    "__future__": ["annotations"],
+    "heapq": ["heappush", "heappop", "heapify", "heapreplace", "heappushpop"],
+    "math": ["gcd", "lcm", "isqrt", "comb", "perm", "factorial"],
+    "itertools": "product combinations permutations chain accumulate pairwise islice zip_longest".split(),
+    "collections": ["defaultdict"],
 }
 
 
@@ -67,13 +79,15 @@ class PackageTest(unittest.TestCase):
                 if isinstance(node, ast.FunctionDef):
                     self.assertLessEqual(node.end_lineno - node.lineno + 1, 40, node.name)
 
-    def test_imports_are_from_the_package_only(self):
+    def test_imports_are_from_the_package_or_the_allowed_library(self):
         for tree in map(tree_of, FILES):
             for node in ast.walk(tree):
                 self.assertNotIsInstance(node, ast.Import)
                 if isinstance(node, ast.ImportFrom):
-                    self.assertEqual((node.level, node.module.split(".")[0]), (0, "mixpace"))
+                    self.assertEqual(node.level, 0)
                     self.assertIn(node, tree.body)
+                    if node.module.split(".")[0] != "mixpace":
+                        self.assertLessEqual({alias.name for alias in node.names}, set(LIBRARY[node.module]))
 
     def test_names_are_own_names_or_allowed_builtins(self):
         for tree in map(tree_of, FILES):
