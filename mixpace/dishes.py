@@ -68,6 +68,7 @@ def _merged(needs):
     amounts = {}
     for beat, tool, amount in needs:
         amounts[(beat, tool)] = amounts.get((beat, tool), 0) + amount
+    # Beats and tools are sorted one by one: beside the order of regions, LANGUAGE.md (L5) lets no tuples be sorted.
     beats = sorted(set([int(need[0]) for need in needs]))
     tools = sorted(set([str(need[1]) for need in needs]))
     return tuple([(beat, tool, amounts[(beat, tool)]) for beat in beats for tool in tools if (beat, tool) in amounts])

@@ -51,6 +51,7 @@ class Kitchen:
     @property
     def horizon(self):
         """The greatest length of a dish, or 1."""
+        # `int` says that these are numbers, as LANGUAGE.md (L5) asks for beside the order of regions.
         return max([int(dish.length) for dish in self._menu], default=1)
 
     def number_of(self, tool):
