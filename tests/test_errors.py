@@ -30,6 +30,13 @@ class ErrorsTest(unittest.TestCase):
                 self.assertEqual(getattr(errors, name).__bases__, (errors.KitchenError,))
                 self.assertEqual(getattr(errors, name).__module__, "mixpace.errors")
 
+    def test_each_error_is_none_of_the_ten_others(self):
+        for name in PLAIN + list(WITH_ATTRIBUTES):
+            error = getattr(errors, name)(*WITH_ATTRIBUTES.get(name, {}).values())
+            kinds = [other for other in PLAIN + list(WITH_ATTRIBUTES) if isinstance(error, getattr(errors, other))]
+            self.assertEqual(kinds, [name])
+            self.assertEqual([isinstance(error, errors.KitchenError), isinstance(error, ValueError)], [True, True])
+
     def test_errors_with_attributes_have_them_by_position_and_by_name(self):
         for name, attributes in WITH_ATTRIBUTES.items():
             with self.subTest(name):

@@ -6,10 +6,15 @@ from mixpace.dishes import Dish
 from mixpace.errors import InvalidKitchen, InvalidLine
 from mixpace.kitchens import Kitchen
 from mixpace.mixes import lowest
+from mixpace.papers import paper, tight_row
 from mixpace.polygons import Region
 from mixpace.reading import read_dish, write_dish
+from mixpace.regions import best_ring, corner_rings, region_of
 from mixpace.rows import first_lack, ring_lack, ring_mean, row_totals, stretch_totals
+from mixpace.services import Service, serve_closed
 from mixpace.standings import after_beat, after_start, all_standings, empty_standing, moves
+from mixpace.wishes import least_number, plan, region_while_closed, shares
+from tests.samples import GREAT, large_kitchens
 
 FIRST, SECOND = 10**12, -10**12
 
@@ -91,6 +96,52 @@ class LimitsTest(unittest.TestCase):
             self.assertIs((great, 0, great) in region, False)
             self.assertIs(Region(mixes[:9]) <= region, True)
             self.assertIsNotNone(region.bar((great, -great, 1)))
+
+    def test_services_of_3000_windows(self):
+        kitchen = Kitchen([("a", 1000)], [Dish("x", [(100, "a", 1)], first=FIRST, second=SECOND)])
+        for windows in (3000, 3001):
+            service = Service(kitchen)
+            for _ in range(1000):
+                service.start(0)
+            service.wait(windows - 1)
+            self.assertEqual(serve_closed(service, "a", [0] * 3000), [])
+            service.start(0)
+            self.assertEqual(service.row, [(1000,)] + [(0,)] * (windows - 2) + [(1,)])
+            self.assertEqual(service.totals, (1001 * FIRST, 1001 * SECOND, windows))
+            self.assertEqual(service.standing, ((0,),) * 100 + ((1,),))
+
+    def test_kitchens_with_close_to_100_standings(self):
+        for kitchen in large_kitchens()[:2]:
+            self.assertEqual((len(kitchen.tools), len(kitchen.menu)), (6, 8))
+            region = region_of(kitchen)
+            self.assertEqual([ring_mean(kitchen, ring) for ring in corner_rings(kitchen)], region.corners)
+            slack, prices = paper(kitchen, (GREAT, -GREAT, GREAT * GREAT))
+            self.assertEqual((slack, len(prices)), (0, len(all_standings(kitchen))))
+            self.assertEqual(tight_row(kitchen, (GREAT, -GREAT, GREAT * GREAT)), [])
+            self.assertIsNone(ring_lack(kitchen, best_ring(kitchen, -GREAT, GREAT)))
+            self.assertEqual(region_while_closed(kitchen, list(kitchen.tools)).corners, [(0, 0, 1)])
+            for corner in region.corners:
+                mix = tuple(number * GREAT for number in corner)
+                self.assertEqual([times for _, times in shares(kitchen, mix)], [1])
+            self.assertIsNone(least_number(kitchen, kitchen.tools[0], (GREAT, GREAT, 1), most=2))
+
+    def test_plans_of_12_blocks(self):
+        # The shares of the other large kitchens would take too many windows to be listed.
+        for kitchen in large_kitchens()[:3]:
+            first, second, beats = region_of(kitchen).corners[-1]
+            mix = (first, second, 3 * beats)
+            pairs = shares(kitchen, mix)
+            for blocks in (12, 13):
+                row = list(plan(kitchen, mix, blocks))
+                played = sum(len(ring) * times for ring, times in pairs) * blocks * (blocks + 1) // 2
+                self.assertEqual(len(row), played + blocks * len(pairs) * (kitchen.horizon - 1))
+                self.assertIsNone(first_lack(kitchen, row))
+
+    def test_papers_and_regions_of_more_than_a_hundred_standings(self):
+        kitchen = Kitchen([("a", 19), ("b", 19)], [Dish("x", [(0, "a", 1)], first=1), Dish("y", [(0, "b", 1)], second=1)])
+        self.assertEqual(region_of(kitchen).corners, [(0, 0, 1), (19, 0, 1), (19, 19, 1), (0, 19, 1)])
+        self.assertEqual(paper(kitchen, (1, 1, 38))[0], 0)
+        self.assertEqual(least_number(kitchen, "a", (25, 1, 1), most=30), 25)
 
 
 if __name__ == "__main__":

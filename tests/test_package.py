@@ -24,6 +24,10 @@ DEFINED = {
     "rows": ["first_lack", "row_totals", "stretch_totals", "ring_lack", "ring_mean"],
     "mixes": ["lowest"],
     "polygons": ["Region"],
+    "services": ["Service", "serve_closed"],
+    "papers": ["paper", "tight_row"],
+    "regions": ["best_ring", "region_of", "corner_rings"],
+    "wishes": ["shares", "plan", "parting_mix", "least_number", "region_while_closed"],
 }
 # What LANGUAGE.md allows to import from elsewhere.
 LIBRARY = {
@@ -46,6 +50,8 @@ def names_bound(tree):
             bound.add(node.id)
         elif isinstance(node, ast.alias):
             bound.add(node.asname or node.name)
+        elif isinstance(node, ast.ExceptHandler):
+            bound.add(node.name)
     return bound
 
 
