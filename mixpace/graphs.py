@@ -63,8 +63,9 @@ def _counts(kitchen, bound):
 def _raise_prices(steps, counts, prices, choices):
     """Raises each price that is less than a step counts with the price behind it; tells whether there was one."""
     raised = False
-    for place, ways in enumerate(steps):
-        for index, after in ways:
+    # Most moves lead to standings that were found later. From the last one on, a round gets prices across many moves.
+    for place in reversed(range(len(steps))):
+        for index, after in steps[place]:
             price = counts[index] + prices[after]
             if price > prices[place]:
                 prices[place] = price

@@ -10,7 +10,6 @@ from mixpace.rows import ring_mean
 
 def shares(kitchen, mix):
     """Returns pairs (ring, times) that together make the mix, or raises InvalidMix or Barred."""
-    check_mix(mix)
     rings = corner_rings(kitchen)
     region = Region([ring_mean(kitchen, ring) for ring in rings])
     # A weight counts beats, and each time that a ring is played lasts as many beats as it has windows.
